@@ -11,17 +11,17 @@ import (
 	"larder/store"
 )
 
-// beside: the call is made again and again by another goroutine, while the body runs.
+// beside: the call is made again and again by another goroutine, while the body runs; and once at the least: on a busy machine its first turn may come when the body has ended.
 func beside(call, body func()) {
 	var all sync.WaitGroup
 	stop := make(chan struct{})
 	all.Go(func() {
 		for {
+			call()
 			select {
 			case <-stop:
 				return
 			default:
-				call()
 			}
 		}
 	})

@@ -125,7 +125,7 @@ func TestNoGoroutineIsLeft(t *testing.T) {
 		crew.Read(s)
 	}
 	now := runtime.NumGoroutine()
-	for tries := 0; now > was && tries < 1000; tries++ {
+	for tries := 0; now > was && tries < 20000; tries++ {
 		time.Sleep(time.Millisecond)
 		now = runtime.NumGoroutine()
 	}
